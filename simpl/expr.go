@@ -3,6 +3,7 @@ package simpl
 import (
 	"alembic/api"
 	"alembic/mach"
+	"alembic/remake"
 )
 
 // value is what an expression comes to.
@@ -162,7 +163,7 @@ func (w *writer) changed(e api.Expr, c change) value {
 // call calls a function; its result is set as a temporary, if that isn't below 0.
 func (w *writer) call(n int, x api.Call) steps {
 	list, ahead := w.parts(append([]api.Expr{x.F}, x.Args...)...)
-	return then(ahead, one(api.Invoke{N: n, F: list[0], Args: list[1:], Sig: newSig(x.Sig)}))
+	return then(ahead, one(api.Invoke{N: n, F: list[0], Args: list[1:], Sig: remake.Sig(x.Sig)}))
 }
 
 // called is a call's result; of a function without one a temporary that isn't set, which is undefined.
