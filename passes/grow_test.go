@@ -183,6 +183,9 @@ func (g *grower) filled(use string, n int) []api.Stmt {
 // number is a number of a kind.
 func (g *grower) number(kind int) api.Expr {
 	n := int64(g.below(11) - 3)
+	if g.below(9) == 0 {
+		n = oneOf(g, edges...)
+	}
 	switch kind {
 	case api.Long:
 		return i64(n)
@@ -227,7 +230,8 @@ func (g *grower) address(depth int) api.Expr {
 			return behind(g.local(oneOf(g, "array", "open", "chars")), int64(4*g.below(6)-4))
 		}
 	case 6:
-		return g.local("array")
+		array := g.local("array")
+		return oneOf(g, array, op2(api.OpAdd+api.OfLong, i64(8), array), op2(api.OpSub+api.OfLong, behind(array, 4008), i64(4000)))
 	}
 	return g.still()
 }
@@ -299,7 +303,7 @@ func (g *grower) int(depth int) api.Expr {
 	case 2:
 		return op1(api.OpInt, g.long(depth-1))
 	case 3, 4, 5:
-		return op2(oneOf(g, api.OpAdd, api.OpSub, api.OpMul, api.OpDiv, api.OpXor, api.OpLt, api.OpEq, api.OpShl), g.int(depth-1), g.int(depth-1))
+		return op2(oneOf(g, api.OpAdd, api.OpSub, api.OpSub, api.OpMul, api.OpDiv, api.OpXor, api.OpLt, api.OpGtU, api.OpEq, api.OpShl), g.int(depth-1), g.int(depth-1))
 	case 6:
 		return g.compared(depth - 1)
 	}
@@ -469,18 +473,29 @@ func (g *grower) choice(depth int) api.Stmt {
 	}
 	other := g.below(6)
 	g.leaves++
-	for n := range g.below(7) {
+	for n := range g.below(9) {
 		switch {
 		case n == other:
 			x.Items = append(x.Items, api.Item{Default: true})
 		case g.below(2) == 0:
-			x.Items = append(x.Items, api.Item{Case: true, Value: uint64(n)})
+			x.Items = append(x.Items, g.newCase(x))
 		default:
 			x.Items = append(x.Items, api.Item{S: g.statement(depth)})
 		}
 	}
 	g.leaves--
 	return x.Stmt()
+}
+
+// newCase is a case that a switch doesn't have.
+func (g *grower) newCase(x api.Switch) api.Item {
+	for {
+		kind := map[bool]int{false: api.Int, true: api.Long}[x.Long]
+		v := g.number(kind).V.Bits
+		if !slices.ContainsFunc(x.Items, func(i api.Item) bool { return i.Case && i.Value == v }) {
+			return api.Item{Case: true, Value: v}
+		}
+	}
 }
 
 func grownUnit(seed int) (*grower, api.Unit) {

@@ -10,7 +10,7 @@ import (
 	"alembic/locals"
 )
 
-// P10.1 to P10.4, P11.1, P11.3: what becomes of grown units, with their locals and with fewer.
+// P10.1 to P10.4, P11.1, P11.3, P12.1, P12.2: what becomes of grown units, with their locals and with fewer, in one frame and for each target.
 func TestGrownUnits(t *testing.T) {
 	var ended [3]int
 	var stay, gone int
@@ -29,8 +29,13 @@ func TestGrownUnits(t *testing.T) {
 		fewer := fewerOf(t, what, u)
 		compareSteps(t, what, u, fewer, script, append(fuels, madeFuel)...)
 		compare(t, what, u, fewer, script, madeFuel, fuels...)
-		compare(t, what, u, minorOf(t, what, u), script, madeFuel, fuels...)
-		ended[compare(t, what, fewer, minorOf(t, what, fewer), script, madeFuel, fuels...).Status]++
+		wide, minor := minorOf(t, what, u), minorOf(t, what, fewer)
+		compare(t, what, u, wide, script, madeFuel, fuels...)
+		ended[compare(t, what, fewer, minor, script, madeFuel, fuels...).Status]++
+		for i, target := range targets {
+			v := []api.Unit{wide, minor}[(seed+i)%2]
+			compareEnds(t, what, v, selOf(t, what, target, v), script, madeFuel, fuels...)
+		}
 		if _, again := grownUnit(seed); !reflect.DeepEqual(u, again) {
 			t.Errorf("%s was changed", what)
 		}

@@ -1,4 +1,4 @@
-// Package passes has the tests that the passes over Light have in common: what they make of programs, and what these do then.
+// Package passes has the tests that the passes over Light and Minor have in common: what they make of programs, and what these do then.
 package passes
 
 import (
@@ -106,13 +106,16 @@ func chunkText(chunk int) string {
 	return []string{"-", "c8s", "c8u", "c16s", "c16u", "c32", "c64", "cf64"}[chunk]
 }
 
-// exprText is an expression: t and a temporary's number, l and a local's, f and an offset in the frame, @ and a name, forms in parentheses.
+// exprText is an expression: t and a temporary's number, l and a local's, f and an offset in the frame, @ and a name, # and an operation's number, forms in parentheses.
 func exprText(e api.Expr) string {
 	switch x := e.View().(type) {
 	case nil:
 		return "none"
 	case api.Num:
-		return map[int]string{api.Long: "L", api.Double: "D"}[x.V.Kind] + strconv.FormatInt(int64(int32(x.V.Bits)), 10)
+		if x.V.Kind == api.Long {
+			return "L" + strconv.FormatInt(int64(x.V.Bits), 10)
+		}
+		return map[int]string{api.Double: "D"}[x.V.Kind] + strconv.FormatInt(int64(int32(x.V.Bits)), 10)
 	case api.Temp:
 		return "t" + strconv.Itoa(x.N)
 	case api.Local:
@@ -122,18 +125,23 @@ func exprText(e api.Expr) string {
 	case api.Global:
 		return "@" + x.Name
 	case api.Load:
+		if x.Off != 0 {
+			return fmt.Sprintf("(%s %s %+d)", chunkText(x.Chunk), exprText(x.Addr), x.Off)
+		}
 		return "(" + chunkText(x.Chunk) + " " + exprText(x.Addr) + ")"
 	case api.Op1:
 		return "(" + opText(x.Op) + " " + exprText(x.X) + ")"
 	case api.Op2:
 		return "(" + opText(x.Op) + " " + exprText(x.X) + " " + exprText(x.Y) + ")"
+	case api.OpI:
+		return fmt.Sprintf("(%s %s #%d)", opText(x.Op), exprText(x.X), x.N)
 	}
 	return fmt.Sprintf("%+v", e)
 }
 
 // opText is an operation's word, of those that the rows speak of, or its number.
 func opText(op int) string {
-	words := map[int]string{api.OpAdd: "add", api.OpSub: "sub", api.OpMul: "mul", api.OpLt: "lt", api.OpAdd + api.OfLong: "addl", api.OpMul + api.OfLong: "mull", api.OpS8: "s8", api.OpLongS: "longs", api.OpNeg: "neg", api.OpAddD: "addd"}
+	words := map[int]string{api.OpAdd: "add", api.OpSub: "sub", api.OpMul: "mul", api.OpLt: "lt", api.OpAdd + api.OfLong: "addl", api.OpMul + api.OfLong: "mull", api.OpS8: "s8", api.OpLongS: "longs", api.OpNeg: "neg", api.OpAddD: "addd", api.OpEq: "eq", api.OpSub + api.OfLong: "subl", api.OpShl: "shl", api.OpLtU: "ltu"}
 	if w := words[op]; w != "" {
 		return w
 	}
@@ -154,7 +162,7 @@ func stmtText(s api.Stmt) string {
 	case api.Set:
 		return fmt.Sprintf("t%d = %s", x.N, exprText(x.X))
 	case api.Put:
-		return "put " + exprText(load(x.Chunk, x.Addr)) + " " + exprText(x.X)
+		return "put " + exprText(api.Load{Chunk: x.Chunk, Addr: x.Addr, Off: x.Off}.Expr()) + " " + exprText(x.X)
 	case api.Invoke:
 		text := "invoke"
 		if x.N != -1 {
@@ -180,6 +188,8 @@ func stmtText(s api.Stmt) string {
 		return x.Name + ":"
 	case api.Return:
 		return "return " + exprText(x.X)
+	case api.Block:
+		return "{" + bodyText(x.List) + "}"
 	}
 	return fmt.Sprintf("%+v", s)
 }

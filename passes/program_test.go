@@ -1,6 +1,7 @@
 package passes
 
 import (
+	"math"
 	"reflect"
 	"slices"
 	"testing"
@@ -9,6 +10,7 @@ import (
 	"alembic/core"
 	"alembic/layout"
 	"alembic/locals"
+	"alembic/mach"
 	"alembic/trace"
 )
 
@@ -19,7 +21,7 @@ type row struct {
 	want   string
 }
 
-// check asks for what a row's program shows in Light, with fewer locals, and in one frame, and for all promises.
+// check asks for what a row's program shows in Light, with fewer locals, in one frame, and as Sel, and for all promises.
 func (r row) check(t *testing.T) {
 	t.Helper()
 	r.checkUnit(t, lightOf(t, r.text))
@@ -39,6 +41,19 @@ func (r row) checkUnit(t *testing.T, u api.Unit) {
 			if got := trace.Text(o); got != r.want+"\n" {
 				t.Errorf("%s\n%s\nnot\n%s", r.text, got, r.want)
 			}
+		}
+		r.checkMinor(t, minor)
+	}
+}
+
+// checkMinor asks for what a row's program shows as the Sel of its Minor.
+func (r row) checkMinor(t *testing.T, minor api.Unit) {
+	t.Helper()
+	for _, target := range targets {
+		sel := selOf(t, r.text, target, minor)
+		compareEnds(t, r.text, minor, sel, r.script, api.MaxFuel, 0, 1, 2, 3, 5, 8, 13, 50, api.MaxFuel)
+		if got := trace.Text(core.Run(sel, nil, r.script, api.MaxFuel)); got != r.want+"\n" {
+			t.Errorf("%s\ntarget %d: %s\nnot\n%s", r.text, target, got, r.want)
 		}
 	}
 }
@@ -177,19 +192,11 @@ void all(int a, char *b, long l, char c) { int n = a; int *p = &a; for (int j = 
 int main() { all(1, text, 1, 300); while (z++ < 2) { d *= z; fp(get(z)); } return -x[0] + (int) d; }`
 	_, other := grownUnit(5)
 	for _, u := range []api.Unit{lightOf(t, sample), other} {
-		for _, pass := range []func(api.Unit) api.Unit{locals.Unit, layout.Unit} {
-			given := roomy(reflect.ValueOf(u))
-			first := pass(given.Interface().(api.Unit))
-			if !isRoomy(given) || !reflect.DeepEqual(given.Interface(), roomy(reflect.ValueOf(u)).Interface()) {
-				t.Error("the unit was changed")
-			}
-			if sharing(given.Interface().(api.Unit), first) {
-				t.Error("memory is shared")
-			}
-			pass(lightOf(t, "int main() { int x = 1; return x; }"))
-			if again := pass(given.Interface().(api.Unit)); !reflect.DeepEqual(first, again) || !reflect.DeepEqual(first, pass(u)) {
-				t.Errorf("%+v\nnot\n%+v", again, first)
-			}
+		checkStays(t, u, locals.Unit)
+		checkStays(t, u, layout.Unit)
+		for _, target := range targets {
+			checkStays(t, layout.Unit(u), chooseFor(t, target))
+			checkStays(t, layout.Unit(locals.Unit(u)), chooseFor(t, target))
 		}
 		given := roomy(reflect.ValueOf(u))
 		for _, f := range given.Interface().(api.Unit).Funcs {
@@ -199,6 +206,27 @@ int main() { all(1, text, 1, 300); while (z++ < 2) { d *= z; fp(get(z)); } retur
 		if !isRoomy(given) || !reflect.DeepEqual(given.Interface(), roomy(reflect.ValueOf(u)).Interface()) {
 			t.Error("the unit was changed")
 		}
+	}
+}
+
+func chooseFor(t testing.TB, target int) func(api.Unit) api.Unit {
+	return func(u api.Unit) api.Unit { return chosen(t, target, u) }
+}
+
+// checkStays asks whether a pass leaves a unit as it was, and answers the same again, in memory of its own.
+func checkStays(t *testing.T, u api.Unit, pass func(api.Unit) api.Unit) {
+	t.Helper()
+	given := roomy(reflect.ValueOf(u))
+	first := pass(given.Interface().(api.Unit))
+	if !isRoomy(given) || !reflect.DeepEqual(given.Interface(), roomy(reflect.ValueOf(u)).Interface()) {
+		t.Error("the unit was changed")
+	}
+	if sharing(given.Interface().(api.Unit), first) {
+		t.Error("memory is shared")
+	}
+	pass(lightOf(t, "int main() { return 1; }"))
+	if again := pass(given.Interface().(api.Unit)); !reflect.DeepEqual(first, again) || !reflect.DeepEqual(first, pass(u)) {
+		t.Errorf("%+v\nnot\n%+v", again, first)
 	}
 }
 
@@ -221,26 +249,63 @@ func TestDeepParts(t *testing.T) {
 		if f := minor.Funcs[0]; f.Frame != 8 || len(f.Body) != 1 || !slices.Equal(locals.Kept(u.Funcs[0]), []bool{false, true}) {
 			t.Errorf("%s: %d bytes", what, f.Frame)
 		}
-	}
-	s := put(api.C32, local(0), i32(6))
-	for n := range deep {
-		switch list := []api.Stmt{s}; n % 4 {
-		case 0:
-			s = api.Block{List: list}.Stmt()
-		case 1:
-			s = api.If{X: i32(1), Then: list}.Stmt()
-		case 2:
-			s = api.Loop{After: true, Body: list, Test: i32(0)}.Stmt()
-		case 3:
-			s = api.Switch{X: i32(3), Items: []api.Item{{Default: true}, {S: s}}}.Stmt()
+		for _, target := range targets {
+			if f := chosen(t, target, minor).Funcs[0]; f.Frame != 8 || len(f.Body) != 1 {
+				t.Errorf("%s: %d bytes", what, f.Frame)
+			}
 		}
 	}
-	u := unitWith(api.Func{Name: "main", Sig: sigOf("i"), Locals: []api.Slot{slotOf(api.C32)}, Body: []api.Stmt{s, ret(x)}})
+	nested := func(deep int) api.Unit {
+		s := put(api.C32, local(0), i32(6))
+		for n := range deep {
+			switch list := []api.Stmt{s}; n % 4 {
+			case 0:
+				s = api.Block{List: list}.Stmt()
+			case 1:
+				s = api.If{X: i32(1), Then: list}.Stmt()
+			case 2:
+				s = api.Loop{After: true, Body: list, Test: i32(0)}.Stmt()
+			case 3:
+				s = api.Switch{X: i32(3), Items: []api.Item{{Default: true}, {S: s}}}.Stmt()
+			}
+		}
+		return unitWith(api.Func{Name: "main", Sig: sigOf("i"), Locals: []api.Slot{slotOf(api.C32)}, Body: []api.Stmt{s, ret(x)}})
+	}
+	u := nested(deep)
 	for _, pass := range []func(api.Unit) api.Unit{locals.Unit, layout.Unit} {
 		if a, b := core.Run(u, nil, nil, api.MaxFuel), core.Run(pass(u), nil, nil, api.MaxFuel); a.Status != api.Exited || a.Code != 6 || !sameOutcome(a, b) {
 			t.Errorf("%s, not %s", shown(b), shown(a))
 		}
 	}
+	for _, target := range targets {
+		// the deepest one takes more steps as Sel than there is fuel
+		if o := core.Run(chosen(t, target, layout.Unit(u)), nil, nil, api.MaxFuel); o.Status != api.Running {
+			t.Errorf("target %d: %s", target, shown(o))
+		}
+		if o := core.Run(chosen(t, target, layout.Unit(nested(deep/2))), nil, nil, api.MaxFuel); o.Status != api.Exited || o.Code != 6 {
+			t.Errorf("target %d: %s", target, shown(o))
+		}
+	}
+}
+
+// Addresses with as many numbers added to one another as parts may be nested.
+func TestDeepAddresses(t *testing.T) {
+	at := global("gi")
+	for n := range 1<<16 - 50 {
+		at = behind(at, int64(n%2*2-1))
+	}
+	u := unitWith(api.Func{Name: "main", Sig: sigOf("i"), Body: []api.Stmt{put(api.C32, behind(at, 4), i32(5)), ret(load(api.C32, at))}})
+	u.Vars = []api.Var{{Name: "gi", Size: 8, Align: 4, Init: []api.Datum{{Chunk: api.C32, V: mach.IntOf(3)}}}}
+	for _, target := range targets {
+		sel := selOf(t, "deep", target, u)
+		if got := bodyText(sel.Funcs[0].Body); got != "put (c32 @gi +4) 5; return (c32 @gi)" {
+			t.Errorf("target %d: %.200s", target, got)
+		}
+		if o := core.Run(sel, nil, nil, api.MaxFuel); o.Status != api.Exited || o.Code != 3 {
+			t.Errorf("target %d: %s", target, shown(o))
+		}
+	}
+	compareEnds(t, "deep", u, chosen(t, api.RV64, u), nil, api.MaxFuel, api.MaxFuel)
 }
 
 // Units that aren't right are answered without a panic; what is none stays so.
@@ -273,5 +338,30 @@ func TestOddUnits(t *testing.T) {
 	}
 	if kept := locals.Kept(api.Func{}); len(kept) != 0 {
 		t.Error(kept)
+	}
+}
+
+// Units that aren't right Minor are answered without a panic.
+func TestOddMinor(t *testing.T) {
+	none := api.Expr{}
+	far := api.OpI{Op: api.OpAdd + api.OfLong, X: temp(0), N: math.MaxInt64}.Expr()
+	stmts := []api.Stmt{
+		{}, {Kind: 99}, {Kind: api.KPut}, {Kind: api.KSwitch}, {Kind: api.KLoop}, api.Break{}.Stmt(), api.Continue{}.Stmt(), api.Do{X: local(3)}.Stmt(), api.Label{}.Stmt(), api.Goto{Name: "none"}.Stmt(),
+		api.Switch{X: none, Items: []api.Item{{}, {Case: true, Default: true, Value: 1 << 63}, {Case: true}}}.Stmt(), api.Put{Chunk: 99, Addr: far, Off: math.MaxInt64, X: far}.Stmt(),
+		set(-3, api.Load{Chunk: -1, Addr: behind(far, math.MinInt64), Off: math.MinInt64}.Expr()), set(0, op2(-5, i32(1), i64(2))), set(0, op2(api.OpShl+api.OfLong, i32(1), i64(2))), set(0, op2(api.OpSub, i64(1), i64(2))), set(0, op2(math.MinInt64, api.Num{}.Expr(), api.Num{V: api.Value{Kind: 77}}.Expr())), set(0, op2(api.OpSub+api.OfLong, none, api.Num{}.Expr())),
+	}
+	for kind := range api.KCall + 3 {
+		bare := api.Expr{Kind: kind}
+		for _, op := range []int{api.OpAdd, api.OpSub, api.OpShl, 0, 999} {
+			stmts = append(stmts, set(0, op2(op, bare, bare)), put(api.C32, behind(bare, 8), op2(op, bare, i32(5))), api.Switch{X: bare, Long: true, Items: []api.Item{{S: set(0, bare)}}}.Stmt())
+		}
+	}
+	for i, s := range stmts {
+		for _, target := range targets {
+			u := unitWith(api.Func{Name: "main", Params: []int{3, -7, 1 << 62, -1 << 63}, Temps: -4, Frame: -8, Body: []api.Stmt{s, s}})
+			if v := chosen(t, target, u); len(v.Funcs) != 1 || v.Funcs[0].Name != "main" || len(v.Funcs[0].Params) != 4 {
+				t.Errorf("%d: %+v", i, v)
+			}
+		}
 	}
 }

@@ -13,11 +13,13 @@ import (
 const (
 	light = iota
 	minor
+	sel
 )
 
-// judge looks whether a unit is right Light or Minor; what isn't, it puts into faults.
+// judge looks whether a unit is right Light, Minor or Sel; what isn't, it puts into faults.
 type judge struct {
 	language int
+	target   int // of Sel
 	names    map[string]bool
 	faults   []string
 	f        api.Func
@@ -49,9 +51,17 @@ func (j *judge) need(holds bool, format string, args ...any) {
 	}
 }
 
-// faultsOf tells what isn't right in a unit of a language.
+// faultsOf tells what isn't right in a unit of Light or Minor.
 func faultsOf(language int, u api.Unit) []string {
-	j := &judge{language: language, names: map[string]bool{}}
+	return (&judge{language: language, names: map[string]bool{}}).unit(u)
+}
+
+// selFaultsOf tells what isn't right in a unit of Sel, and what could be an operation with a number or an offset, and isn't.
+func selFaultsOf(target int, u api.Unit) []string {
+	return (&judge{language: sel, target: target, names: map[string]bool{}}).unit(u)
+}
+
+func (j *judge) unit(u api.Unit) []string {
 	for _, v := range u.Vars {
 		j.names[v.Name] = true
 	}
@@ -114,8 +124,7 @@ func (j *judge) statement(s api.Stmt) {
 		j.temp(x.N)
 		j.kind(x.X)
 	case api.Put:
-		j.is(x.Addr, api.Long)
-		j.need(mach.Kind(x.Chunk) != 0 && x.Off == 0, "%v", named{stmt: s})
+		j.access(x.Chunk, x.Addr, x.Off, named{stmt: s})
 		j.is(x.X, mach.Kind(x.Chunk))
 	case api.Invoke:
 		j.invoke(x)
@@ -166,6 +175,7 @@ func (j *judge) flow(s api.Stmt) {
 }
 
 func (j *judge) choice(x api.Switch) {
+	j.need(j.language != sel, "a switch")
 	kind := map[bool]int{false: api.Int, true: api.Long}[x.Long]
 	j.is(x.X, kind)
 	j.leaving++
@@ -199,6 +209,19 @@ func (j *judge) invoke(x api.Invoke) {
 	}
 }
 
+// access asks whether a chunk can be loaded or stored at an address, so many bytes behind it.
+func (j *judge) access(chunk int, at api.Expr, off int, where named) {
+	j.is(at, api.Long)
+	j.need(mach.Kind(chunk) != 0, "%v", where)
+	if j.language != sel {
+		j.need(off == 0, "%v", where)
+		return
+	}
+	j.need(fits(j.target, int64(off)), "%v", where)
+	_, more := asOffset(j.target, at, off)
+	j.need(more == off, "%v could have the offset %d", where, more)
+}
+
 // is asks whether an expression is of a kind.
 func (j *judge) is(e api.Expr, kind int) {
 	k := j.kind(e)
@@ -223,19 +246,25 @@ func (j *judge) kind(e api.Expr) int {
 		j.need(j.language == light && x.N >= 0 && x.N < len(j.f.Locals), "local %d", x.N)
 		return api.Long
 	case api.Frame:
-		j.need(j.language == minor && x.Off >= 0 && x.Off <= j.f.Frame, "%d in the frame", x.Off)
+		j.need(j.language != light && x.Off >= 0 && x.Off <= j.f.Frame, "%d in the frame", x.Off)
 		return api.Long
 	case api.Global:
 		j.need(j.names[x.Name], "no %s", x.Name)
 		return api.Long
 	case api.Load:
-		j.is(x.Addr, api.Long)
-		j.need(mach.Kind(x.Chunk) != 0 && x.Off == 0, "%v", named{expr: e})
+		j.access(x.Chunk, x.Addr, x.Off, named{expr: e})
 		return mach.Kind(x.Chunk)
 	case api.Op1:
 		return j.operation(e, x.Op, x.X)
 	case api.Op2:
+		_, could := asNumber(j.target, x)
+		j.need(j.language != sel || !could, "%v could be with a number", named{expr: e})
 		return j.operation(e, x.Op, x.X, x.Y)
+	case api.OpI:
+		j.need(j.language == sel && mayHave(j.target, x.Op, x.N), "%v", named{expr: e})
+		kind, _, r := mach.Shape(x.Op)
+		j.is(x.X, kind)
+		return r
 	}
 	j.need(false, "%+v isn't of the language", e)
 	return whatever
