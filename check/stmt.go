@@ -168,9 +168,9 @@ func (b *body) leave(t api.TReturn) api.Return {
 		require(isVoid(b.result), t.At, api.ErrType)
 		return api.Return{}
 	}
-	r := b.expr(t.X)
+	v := b.value(t.X)
 	require(!isVoid(b.result), t.At, api.ErrType)
-	x, ok := assigned(valueOf(t.X, r), b.result)
+	x, ok := assigned(v, b.result)
 	require(ok, t.At, api.ErrType)
 	return api.Return{X: x}
 }

@@ -63,7 +63,9 @@ func TestReturns(t *testing.T) {
 	}
 	for _, x := range []struct{ result, text string }{
 		{"int", "¦return;"}, {"int *", "if (i) ¦return;"}, {"double", "{ ¦return; }"}, {"int", "¦return p;"}, {"int *", "¦return 1;"}, {"int *", "¦return cp;"}, {"int *", "¦return d;"}, {"double", "¦return p;"}, {"int", "¦return rf();"}, {"int", "return ¦g;"}, {"int", "return ev¦();"}, {"int", "return i ¦? ev() : ev();"}, {"struct un *", "¦return gp;"}, {"char *", "¦return ucp;"}, {"int", "¦return fi;"},
-		{"void", "¦return 1;"}, {"void", "¦return p;"}, {"void", "¦return ev();"}, {"void", "¦return (void) 1;"}, {"void", "¦return g;"}, {"void", "¦return 0;"},
+		{"void", "¦return 1;"}, {"void", "¦return p;"}, {"void", "¦return 0;"}, {"void", "¦return a;"}, {"void", "¦return fi;"}, {"void", "¦return rf();"}, {"void", "¦return gp->t;"}, {"void", "¦return \"a\";"}, {"void", "if (i) ¦return i;"},
+		// a part without a value is told ahead of the return
+		{"void", "return ev¦();"}, {"void", "return ¦(void) 1;"}, {"void", "return ¦g;"}, {"void", "return ¦*up;"}, {"void", "return 1 ¦, ev();"}, {"void", "return i ¦? ev() : ev();"}, {"void", "return (ev¦());"}, {"void", "return ga¦[1];"}, {"void", "{ return ev¦(); }"},
 	} {
 		wantError(t, api.ErrType, prelude+x.result+" f() { "+x.text+" }")
 	}
