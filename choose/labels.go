@@ -4,6 +4,7 @@ import (
 	"strconv"
 
 	"alembic/api"
+	"alembic/walk"
 )
 
 // labels are those of a function, and how many new ones were asked for.
@@ -14,33 +15,12 @@ type labels struct {
 
 func labelsOf(body []api.Stmt) labels {
 	l := labels{taken: map[string]struct{}{}}
-	l.list(body)
-	return l
-}
-
-func (l *labels) list(list []api.Stmt) {
-	for _, s := range list {
-		l.stmt(s)
-	}
-}
-
-func (l *labels) stmt(s api.Stmt) {
-	switch x := s.View().(type) {
-	case api.Label:
-		l.taken[x.Name] = struct{}{}
-	case api.If:
-		l.list(x.Then)
-		l.list(x.Else)
-	case api.Loop:
-		l.list(x.Body)
-		l.list(x.Step)
-	case api.Switch:
-		for _, i := range x.Items {
-			l.stmt(i.S)
+	for s := range walk.All(body) {
+		if x, ok := s.View().(api.Label); ok {
+			l.taken[x.Name] = struct{}{}
 		}
-	case api.Block:
-		l.list(x.List)
 	}
+	return l
 }
 
 // next is a label that isn't in the function yet.

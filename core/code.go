@@ -16,7 +16,7 @@ type code struct {
 // writer writes a function's code. The code of an expression leaves its value on top of the machine's.
 type writer struct {
 	f       api.Func
-	symbols map[string]int
+	address func(name string) (api.Value, bool)
 	steps   []func(m *machine)
 	labels  map[string]*spot
 	out     func(m *machine) // what Break does
@@ -24,9 +24,9 @@ type writer struct {
 	news    int              // how many Modifies there are in whose New this stands
 }
 
-// written is the code of a function.
-func written(f api.Func, symbols map[string]int) []func(m *machine) {
-	w := &writer{f: f, symbols: symbols, labels: map[string]*spot{}, out: wrong, next: wrong}
+// written is the code of a function, in which names have these addresses.
+func written(f api.Func, address func(name string) (api.Value, bool)) []func(m *machine) {
+	w := &writer{f: f, address: address, labels: map[string]*spot{}, out: wrong, next: wrong}
 	w.list(f.Body)
 	w.add(number{}.push, leave)
 	return w.steps
@@ -67,9 +67,7 @@ func (w *writer) label(name string) *spot {
 }
 
 func (s *spot) jump(m *machine) {
-	if !s.known {
-		m.wrong()
-	}
+	m.must(s.known)
 	m.now.at = s.at
 }
 
@@ -95,10 +93,10 @@ type ring struct {
 }
 
 func (r *ring) jump(m *machine) {
-	if r.in == m.now && r.taken == m.taken {
+	if r.in == m.now && r.taken == m.Taken() {
 		panic(ending{status: api.Running})
 	}
-	r.in, r.taken = m.now, m.taken
+	r.in, r.taken = m.now, m.Taken()
 	r.to.jump(m)
 }
 

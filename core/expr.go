@@ -3,6 +3,7 @@ package core
 import (
 	"alembic/api"
 	"alembic/mach"
+	"alembic/world"
 )
 
 // expr writes an expression.
@@ -76,7 +77,7 @@ func (t temp) set(m *machine) { m.now.temps[t.N] = m.pop() }
 // room is a place in an activation's memory: a local's block or the frame, of a size, and an offset there.
 type room struct{ n, size, off int }
 
-func (r room) push(m *machine) { m.push(m.own(r.n, r.size, r.off)) }
+func (r room) push(m *machine) { m.push(world.Behind(m.own(r.n, r.size), r.off)) }
 
 func (w *writer) local(n int) {
 	if n < 0 || n >= len(w.f.Locals) {
@@ -87,36 +88,32 @@ func (w *writer) local(n int) {
 }
 
 func (w *writer) global(name string) {
-	b, ok := w.symbols[name]
+	w.known(w.address(name))
+}
+
+// known writes a value that is known ahead of the run; without a meaning the run ends.
+func (w *writer) known(v api.Value, ok bool) {
 	if !ok {
 		w.add(wrong)
 		return
 	}
-	w.add(number{mach.PtrOf(b, 0)}.push)
+	w.add(number{v}.push)
 }
 
 // access is a load or a store by a chunk, so many bytes behind an address.
 type access struct{ chunk, off int }
 
-func (a access) load(m *machine) { m.push(m.load(a.chunk, behind(m.pop(), a.off))) }
+func (a access) load(m *machine) { m.push(m.meant(m.Load(a.chunk, m.pop(), a.off))) }
 
 func (a access) put(m *machine) {
 	top := m.take(2)
-	m.store(a.chunk, behind(top[0], a.off), top[1])
+	m.must(m.Store(a.chunk, top[0], a.off, top[1]))
 }
 
 func (a access) assign(m *machine) {
 	v := m.values[len(m.values)-1]
 	a.put(m)
 	m.push(v)
-}
-
-// behind is an address so many bytes behind another one; what is no address stays so.
-func behind(at api.Value, off int) api.Value {
-	if at.Kind == api.Ptr {
-		at.Bits += uint64(off)
-	}
-	return at
 }
 
 // operation is one of one or two values.
@@ -126,20 +123,13 @@ func (o operation) one(m *machine) { m.push(m.meant(mach.Eval1(int(o), m.pop()))
 
 func (o operation) two(m *machine) {
 	top := m.take(2)
-	m.push(m.meant(m.mem.Eval2(int(o), top[0], top[1])))
+	m.push(m.meant(m.Eval2(int(o), top[0], top[1])))
 }
 
 // withNumber writes an operation whose second operand is a number, which no pick puts ahead of the first.
 func (w *writer) withNumber(x api.OpI) {
 	w.expr(x.X)
-	switch _, kind, _ := mach.Shape(x.Op); kind {
-	case api.Int:
-		w.number(int32(x.N))
-	case api.Long:
-		w.add(number{mach.LongOf(x.N)}.push)
-	default:
-		w.add(wrong)
-	}
+	w.known(world.Number(x.Op, x.N))
 	w.add(operation(x.Op).two)
 }
 
@@ -166,13 +156,13 @@ func (w *writer) modify(x api.Modify) {
 
 func (c modify) begin(m *machine) {
 	top := m.take(2)
-	m.changes = append(m.changes, change{at: top[0], old: m.load(c.chunk, top[0]), arg: top[1]})
+	m.changes = append(m.changes, change{at: top[0], old: m.meant(m.Load(c.chunk, top[0], 0)), arg: top[1]})
 }
 
 func (c modify) end(m *machine) {
 	done, v := m.change(), m.pop()
 	m.changes = m.changes[:len(m.changes)-1]
-	m.store(c.chunk, done.at, v)
+	m.must(m.Store(c.chunk, done.at, 0, v))
 	if c.back {
 		v = done.old
 	}

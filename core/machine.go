@@ -3,46 +3,40 @@ package core
 import (
 	"alembic/api"
 	"alembic/mach"
-	"alembic/memory"
+	"alembic/world"
 )
 
 // machine runs a unit. All that a run has begun stands in its lists and not in Go's own calls, so that neither deep expressions nor deep calls use these up.
 type machine struct {
-	mem         *memory.Memory
-	zeros       zeros
-	symbols     map[string]int   // the blocks of variables and functions
-	functions   map[int]function // by their blocks
-	main        *code
-	picks       []int // those that are left
-	script      []int64
-	fuel, taken int // how many steps may be taken, and were
-	trace       []api.Event
-	now         *activation
-	calls       int // how many activations there are
-	values      []api.Value
-	ways        []int // within expressions: where code goes on, the next one at last
-	changes     []change
+	*world.World
+	codes   []*code // of the unit's functions
+	picks   []int   // those that are left
+	now     *activation
+	calls   int // how many activations there are
+	values  []api.Value
+	ways    []int // within expressions: where code goes on, the next one at last
+	changes []change
 }
 
 func newMachine(picks []int, script []int64, fuel int) *machine {
-	mem := memory.New()
-	return &machine{
-		mem:       mem,
-		zeros:     zeros{mem: mem, laid: map[piece]struct{}{}},
-		symbols:   map[string]int{},
-		functions: map[int]function{},
-		picks:     picks,
-		script:    script,
-		fuel:      min(max(fuel, 0), api.MaxFuel),
+	return &machine{World: world.New(script, fuel), picks: picks}
+}
+
+// begin lays the variables and functions of a unit.
+func (m *machine) begin(u api.Unit) {
+	var own []world.Function
+	for _, f := range u.Funcs {
+		own = append(own, world.Function{Name: f.Name, Sig: f.Sig})
+		m.codes = append(m.codes, &code{f: f})
 	}
+	m.must(m.Begin(u.Vars, u.Externs, own))
 }
 
 // run calls main and does what it says, till an ending is thrown.
 func (m *machine) run() {
-	if m.main == nil {
-		m.wrong()
-	}
-	m.main.enter(m, nil)
+	n, ok := m.Main()
+	m.must(ok)
+	m.codes[n].enter(m, nil)
 	for {
 		a := m.now
 		a.at++
@@ -52,42 +46,30 @@ func (m *machine) run() {
 
 func (m *machine) wrong() { panic(ending{status: api.Wrong}) }
 
-// step takes one of the steps that the fuel allows.
-func (m *machine) step() {
-	if m.taken >= m.fuel {
-		panic(ending{status: api.Running})
-	}
-	m.taken++
-}
-
-// load is what stands at an address.
-func (m *machine) load(chunk int, at api.Value) api.Value {
-	m.zeros.lay(at)
-	return m.meant(m.mem.Load(chunk, at))
-}
-
-// store puts a value at an address.
-func (m *machine) store(chunk int, at, v api.Value) {
-	m.zeros.lay(at)
-	if !m.mem.Store(chunk, at, v) {
+// must ends the run where something has no meaning.
+func (m *machine) must(meant bool) {
+	if !meant {
 		m.wrong()
 	}
 }
 
 // meant is a value that must have a meaning.
 func (m *machine) meant(v api.Value, ok bool) api.Value {
-	if !ok {
-		m.wrong()
-	}
+	m.must(ok)
 	return v
+}
+
+// step takes one of the steps that the fuel allows.
+func (m *machine) step() {
+	if !m.Step() {
+		panic(ending{status: api.Running})
+	}
 }
 
 // truth is whether a value isn't zero.
 func (m *machine) truth(v api.Value) bool {
 	holds, ok := mach.Truth(v)
-	if !ok {
-		m.wrong()
-	}
+	m.must(ok)
 	return holds
 }
 

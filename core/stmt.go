@@ -170,9 +170,7 @@ func (w *writer) item(b *branches, i api.Item) {
 
 func (b *branches) jump(m *machine) {
 	v := m.pop()
-	if v.Kind != b.kind {
-		m.wrong()
-	}
+	m.must(v.Kind == b.kind)
 	to := b.cases[v.Bits]
 	if to == nil {
 		to = b.other

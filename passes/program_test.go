@@ -8,9 +8,11 @@ import (
 
 	"alembic/api"
 	"alembic/core"
+	"alembic/graph"
 	"alembic/layout"
 	"alembic/locals"
 	"alembic/mach"
+	"alembic/rtl"
 	"alembic/trace"
 )
 
@@ -21,7 +23,7 @@ type row struct {
 	want   string
 }
 
-// check asks for what a row's program shows in Light, with fewer locals, in one frame, and as Sel, and for all promises.
+// check asks for what a row's program shows in Light, with fewer locals, in one frame, as Sel, and as RTL, and for all promises.
 func (r row) check(t *testing.T) {
 	t.Helper()
 	r.checkUnit(t, lightOf(t, r.text))
@@ -46,7 +48,7 @@ func (r row) checkUnit(t *testing.T, u api.Unit) {
 	}
 }
 
-// checkMinor asks for what a row's program shows as the Sel of its Minor.
+// checkMinor asks for what a row's program shows as the Sel of its Minor, and as RTL, where calls may be deeper.
 func (r row) checkMinor(t *testing.T, minor api.Unit) {
 	t.Helper()
 	for _, target := range targets {
@@ -54,6 +56,11 @@ func (r row) checkMinor(t *testing.T, minor api.Unit) {
 		compareEnds(t, r.text, minor, sel, r.script, api.MaxFuel, 0, 1, 2, 3, 5, 8, 13, 50, api.MaxFuel)
 		if got := trace.Text(core.Run(sel, nil, r.script, api.MaxFuel)); got != r.want+"\n" {
 			t.Errorf("%s\ntarget %d: %s\nnot\n%s", r.text, target, got, r.want)
+		}
+		g := graphOf(t, r.text, sel)
+		compareGraphEnds(t, r.text, sel, g, r.script, api.MaxFuel, 0, 1, 2, 3, 5, 8, 13, 50, api.MaxFuel)
+		if got := trace.Text(rtl.Run(g, r.script, api.MaxFuel)); got != r.want+"\n" && r.want != "running" {
+			t.Errorf("%s\nRTL: %s\nnot\n%s", r.text, got, r.want)
 		}
 	}
 }
@@ -194,9 +201,11 @@ int main() { all(1, text, 1, 300); while (z++ < 2) { d *= z; fp(get(z)); } retur
 	for _, u := range []api.Unit{lightOf(t, sample), other} {
 		checkStays(t, u, locals.Unit)
 		checkStays(t, u, layout.Unit)
+		checkStays(t, chosen(t, api.X64, layout.Unit(u)), func(u api.Unit) api.Graph { return graph.Renumber(graph.Unit(u).Funcs[0]) })
 		for _, target := range targets {
 			checkStays(t, layout.Unit(u), chooseFor(t, target))
 			checkStays(t, layout.Unit(locals.Unit(u)), chooseFor(t, target))
+			checkStays(t, chosen(t, target, layout.Unit(u)), graph.Unit)
 		}
 		given := roomy(reflect.ValueOf(u))
 		for _, f := range given.Interface().(api.Unit).Funcs {
@@ -214,7 +223,7 @@ func chooseFor(t testing.TB, target int) func(api.Unit) api.Unit {
 }
 
 // checkStays asks whether a pass leaves a unit as it was, and answers the same again, in memory of its own.
-func checkStays(t *testing.T, u api.Unit, pass func(api.Unit) api.Unit) {
+func checkStays[T any](t *testing.T, u api.Unit, pass func(api.Unit) T) {
 	t.Helper()
 	given := roomy(reflect.ValueOf(u))
 	first := pass(given.Interface().(api.Unit))
@@ -250,8 +259,12 @@ func TestDeepParts(t *testing.T) {
 			t.Errorf("%s: %d bytes", what, f.Frame)
 		}
 		for _, target := range targets {
-			if f := chosen(t, target, minor).Funcs[0]; f.Frame != 8 || len(f.Body) != 1 {
+			sel := chosen(t, target, minor)
+			if f := sel.Funcs[0]; f.Frame != 8 || len(f.Body) != 1 {
 				t.Errorf("%s: %d bytes", what, f.Frame)
+			}
+			if g := graph.Unit(sel); !rtl.Right(g) || len(g.Funcs[0].Code) < deep {
+				t.Errorf("%s: %d instructions", what, len(g.Funcs[0].Code))
 			}
 		}
 	}
@@ -282,7 +295,14 @@ func TestDeepParts(t *testing.T) {
 		if o := core.Run(chosen(t, target, layout.Unit(u)), nil, nil, api.MaxFuel); o.Status != api.Running {
 			t.Errorf("target %d: %s", target, shown(o))
 		}
-		if o := core.Run(chosen(t, target, layout.Unit(nested(deep/2))), nil, nil, api.MaxFuel); o.Status != api.Exited || o.Code != 6 {
+		sel := chosen(t, target, layout.Unit(nested(deep/2)))
+		if o := core.Run(sel, nil, nil, api.MaxFuel); o.Status != api.Exited || o.Code != 6 {
+			t.Errorf("target %d: %s", target, shown(o))
+		}
+		if g := graph.Unit(sel); !rtl.Right(g) {
+			t.Errorf("target %d: it isn't right", target)
+		}
+		if o := rtl.Run(graph.Unit(chosen(t, target, layout.Unit(nested(deep/9)))), nil, api.MaxFuel); o.Status != api.Exited || o.Code != 6 {
 			t.Errorf("target %d: %s", target, shown(o))
 		}
 	}

@@ -4,8 +4,6 @@ import (
 	"cmp"
 	"reflect"
 	"slices"
-
-	"alembic/api"
 )
 
 // roomy is a copy of what is given, in which each list has room to spare.
@@ -73,7 +71,7 @@ func spansOf(v reflect.Value, answered bool, spans []span) []span {
 }
 
 // sharing tells whether a list of an answer shares memory with another one of it or of what was given.
-func sharing(given, answer api.Unit) bool {
+func sharing(given, answer any) bool {
 	spans := spansOf(reflect.ValueOf(answer), true, spansOf(reflect.ValueOf(given), false, nil))
 	slices.SortFunc(spans, func(a, b span) int { return cmp.Compare(a.from, b.from) })
 	var ends, answers uintptr // of all, of the answer's

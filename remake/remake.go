@@ -1,4 +1,4 @@
-// Package remake makes programs of Light and Minor anew, in memory of their own, with other parts. The passes over these languages share it.
+// Package remake makes programs anew, in memory of their own, with other parts. The passes share it.
 package remake
 
 import (
@@ -7,7 +7,7 @@ import (
 	"alembic/api"
 )
 
-// Pass tells what single expressions and statements become. For those that are kept it asks Expr and Stmt, which ask it for their parts.
+// Pass is one over Light or Minor. It tells what single expressions and statements become. For those that are kept it asks Expr and Stmt, which ask it for their parts.
 type Pass interface {
 	Expr(e api.Expr) api.Expr
 	Stmt(s api.Stmt) api.Stmt
@@ -15,16 +15,28 @@ type Pass interface {
 
 // Unit is a unit of the same variables and functions from outside, each of whose functions is what function makes of it.
 func Unit(u api.Unit, function func(f api.Func) api.Func) api.Unit {
-	var made api.Unit
-	for _, v := range u.Vars {
-		v.Init = slices.Clone(v.Init)
-		made.Vars = append(made.Vars, v)
-	}
-	for _, e := range u.Externs {
-		made.Externs = append(made.Externs, api.Extern{Name: e.Name, Sig: Sig(e.Sig)})
-	}
+	made := api.Unit{Vars: Vars(u.Vars), Externs: Externs(u.Externs)}
 	for _, f := range u.Funcs {
 		made.Funcs = append(made.Funcs, function(f))
+	}
+	return made
+}
+
+// Vars are the same variables.
+func Vars(list []api.Var) []api.Var {
+	var made []api.Var
+	for _, v := range list {
+		v.Init = slices.Clone(v.Init)
+		made = append(made, v)
+	}
+	return made
+}
+
+// Externs are the same functions from outside.
+func Externs(list []api.Extern) []api.Extern {
+	var made []api.Extern
+	for _, e := range list {
+		made = append(made, api.Extern{Name: e.Name, Sig: Sig(e.Sig)})
 	}
 	return made
 }
@@ -32,6 +44,12 @@ func Unit(u api.Unit, function func(f api.Func) api.Func) api.Unit {
 // Sig is the same signature.
 func Sig(s api.Sig) api.Sig {
 	return api.Sig{Params: slices.Clone(s.Params), Result: s.Result}
+}
+
+// Instr is the same instruction of RTL.
+func Instr(i api.Instr) api.Instr {
+	i.Args, i.Sig = slices.Clone(i.Args), Sig(i.Sig)
+	return i
 }
 
 // Expr is an expression whose parts are what a pass makes of them.

@@ -1,4 +1,4 @@
-package core
+package world
 
 import (
 	"alembic/api"
@@ -6,56 +6,46 @@ import (
 	"alembic/memory"
 )
 
-// begin lays the variables and functions of a unit.
-func (m *machine) begin(u api.Unit) {
-	for _, v := range u.Vars {
-		m.zeros.vars = max(m.zeros.vars, m.symbol(v.Name, v.Size))
-	}
-	for _, e := range u.Externs {
-		m.functions[m.functionBlock(e.Name)] = function{sig: e.Sig, call: outside(e).call}
-	}
-	for _, f := range u.Funcs {
-		c := &code{f: f}
-		m.functions[m.functionBlock(f.Name)] = function{sig: f.Sig, call: c.enter}
-		if f.Name == "main" {
-			m.main = c
-		}
-	}
-	for _, v := range u.Vars {
-		m.variable(v)
-	}
+// Room makes a block of so many bytes, and answers its address.
+func (w *World) Room(size int) api.Value { return mach.PtrOf(w.mem.Alloc(size), 0) }
+
+// Free frees the block of an address; what is no block's is none.
+func (w *World) Free(at api.Value) { w.mem.Free(at.Block) }
+
+// Load is what stands so many bytes behind an address.
+func (w *World) Load(chunk int, at api.Value, off int) (api.Value, bool) {
+	at = Behind(at, off)
+	w.zeros.lay(at)
+	return w.mem.Load(chunk, at)
 }
 
-// symbol makes the block that a name stands for.
-func (m *machine) symbol(name string, size int) int {
-	b := m.mem.Alloc(size)
-	m.symbols[name] = b
-	return b
+// Store puts a value so many bytes behind an address.
+func (w *World) Store(chunk int, at api.Value, off int, v api.Value) bool {
+	at = Behind(at, off)
+	w.zeros.lay(at)
+	return w.mem.Store(chunk, at, v)
 }
 
-func (m *machine) functionBlock(name string) int {
-	b := m.symbol(name, 1)
-	m.mem.Fix(b)
-	return b
+// Behind is an address so many bytes behind another one; what is no address stays so.
+func Behind(at api.Value, off int) api.Value {
+	if at.Kind == api.Ptr {
+		at.Bits += uint64(off)
+	}
+	return at
 }
 
-// variable stores a variable's beginning.
-func (m *machine) variable(v api.Var) {
-	b := m.symbols[v.Name]
-	for _, d := range v.Init {
-		m.store(d.Chunk, mach.PtrOf(b, int64(d.At)), m.datum(d))
-	}
-	if v.Fixed {
-		m.zeros.layAll(b)
-		m.mem.Fix(b)
-	}
-}
+// Eval2 is an operation of two.
+func (w *World) Eval2(op int, x, y api.Value) (api.Value, bool) { return w.mem.Eval2(op, x, y) }
 
-func (m *machine) datum(d api.Datum) api.Value {
-	if d.Sym == "" {
-		return d.V
+// Number is a number as the second operand of an operation.
+func Number(op int, n int64) (api.Value, bool) {
+	switch _, kind, _ := mach.Shape(op); kind {
+	case api.Int:
+		return mach.IntOf(int32(n)), true
+	case api.Long:
+		return mach.LongOf(n), true
 	}
-	return mach.PtrOf(m.symbols[d.Sym], int64(d.Off))
+	return api.Value{}, false
 }
 
 // zeros lets the bytes of variables be 0. They are laid a piece at a time, ahead of the first access, so that a great variable costs no more than what is used of it.
