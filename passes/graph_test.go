@@ -347,7 +347,7 @@ func (g *mixer) statement(depth int) api.Stmt {
 	return g.set(n)
 }
 
-// P14.1, P14.2: grown units of such temporaries.
+// P14.1, P14.2, P16.1 to P16.3, P17.1 to P17.3: grown units of such temporaries.
 func TestGrownMixtures(t *testing.T) {
 	var ended [3]int
 	for seed := range 2000 {
@@ -357,6 +357,7 @@ func TestGrownMixtures(t *testing.T) {
 		made := graphOf(t, what, u)
 		script := []int64{int64(g.below(3)), 1, 0, 7}
 		fuels := []int{0, g.below(9), g.below(60), 200}
+		compareShorter(t, what, made, script, fuels...)
 		if g.exact {
 			compareGraphEnds(t, what, u, made, script, 6000, fuels...)
 		} else {

@@ -18,7 +18,7 @@ type tally struct {
 	stay, gone  int
 }
 
-// P10.1 to P10.4, P11.1, P11.3, P12.1, P12.2, P14.1, P14.2: what becomes of grown units, with their locals and with fewer, in one frame, for each target, and as RTL.
+// P10.1 to P10.4, P11.1, P11.3, P12.1, P12.2, P14.1, P14.2, P16.1 to P16.3, P17.1 to P17.3: what becomes of grown units, with their locals and with fewer, in one frame, for each target, as RTL, and of that.
 func TestGrownUnits(t *testing.T) {
 	const parts = 8
 	all := &tally{}
@@ -60,7 +60,11 @@ func (all *tally) checkGrown(t *testing.T, seed int) {
 		v := []api.Unit{wide, minor}[(seed+i)%2]
 		sel := selOf(t, what, target, v)
 		compareEnds(t, what, v, sel, script, madeFuel, fuels...)
-		rtls = append(rtls, compareGraph(t, what, sel, graphOf(t, what, sel), script, 2*madeFuel, fuels...).Status)
+		made := graphOf(t, what, sel)
+		rtls = append(rtls, compareGraph(t, what, sel, made, script, 2*madeFuel, fuels...).Status)
+		if i == seed%2 {
+			compareShorter(t, what, made, script, append(fuels, 2*madeFuel)...)
+		}
 	}
 	if _, again := grownUnit(seed); !reflect.DeepEqual(u, again) {
 		t.Errorf("%s was changed", what)

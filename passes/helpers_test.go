@@ -1,4 +1,4 @@
-// Package passes has the tests that the passes over Light and Minor have in common: what they make of programs, and what these do then.
+// Package passes has the tests that the passes over Light, Minor, Sel and RTL have in common: what they make of programs, and what these do then.
 package passes
 
 import (

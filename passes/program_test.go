@@ -23,7 +23,7 @@ type row struct {
 	want   string
 }
 
-// check asks for what a row's program shows in Light, with fewer locals, in one frame, as Sel, and as RTL, and for all promises.
+// check asks for what a row's program shows in Light, with fewer locals, in one frame, as Sel, as RTL, and as what the passes over RTL make of that, and for all promises.
 func (r row) check(t *testing.T) {
 	t.Helper()
 	r.checkUnit(t, lightOf(t, r.text))
@@ -62,6 +62,7 @@ func (r row) checkMinor(t *testing.T, minor api.Unit) {
 		if got := trace.Text(rtl.Run(g, r.script, api.MaxFuel)); got != r.want+"\n" && r.want != "running" {
 			t.Errorf("%s\nRTL: %s\nnot\n%s", r.text, got, r.want)
 		}
+		compareShorter(t, r.text, g, r.script, 0, 1, 5, 50, api.MaxFuel)
 	}
 }
 

@@ -46,12 +46,6 @@ func Sig(s api.Sig) api.Sig {
 	return api.Sig{Params: slices.Clone(s.Params), Result: s.Result}
 }
 
-// Instr is the same instruction of RTL.
-func Instr(i api.Instr) api.Instr {
-	i.Args, i.Sig = slices.Clone(i.Args), Sig(i.Sig)
-	return i
-}
-
 // Expr is an expression whose parts are what a pass makes of them.
 func Expr(p Pass, e api.Expr) api.Expr {
 	switch x := e.View().(type) {
